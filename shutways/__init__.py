@@ -1,0 +1,1 @@
+"""Shutways: bridges that find a tree."""
