@@ -51,6 +51,19 @@ def names_bound(node):
     return []
 
 
+def names_of_top(tree):
+    """The names bound at a file's top, each as often as it is bound there."""
+    found = []
+    for node in tree.body:
+        if isinstance(node, ast.ImportFrom):
+            found += [alias.asname or alias.name for alias in node.names]
+        elif isinstance(node, ast.Assign):
+            found += [part.id for part in ast.walk(node.targets[0]) if isinstance(part, ast.Name)]
+        elif isinstance(node, (ast.FunctionDef, ast.ClassDef)):
+            found.append(node.name)
+    return found
+
+
 def has_plain_parameters(node):
     args = node.args
     return not (args.vararg or args.kwarg or args.kwonlyargs or args.posonlyargs)
@@ -152,6 +165,85 @@ class LanguageTest(unittest.TestCase):
                 continue
             for bound in names_bound(node):
                 self.assertFalse(hasattr(builtins, bound), self.where(name, node))
+
+    def test_no_local_is_called_like_a_class_or_an_import_of_its_file(self):
+        for name, text in self.files():
+            tree = ast.parse(text)
+            taken = {node.name for node in tree.body if isinstance(node, ast.ClassDef)}
+            for node in tree.body:
+                if isinstance(node, ast.ImportFrom):
+                    taken |= {alias.name for alias in node.names}
+            for node in ast.walk(tree):
+                if isinstance(node, (ast.Name, ast.arg)):
+                    for bound in names_bound(node):
+                        self.assertNotIn(bound, taken, self.where(name, node))
+
+    def test_each_name_is_bound_once_at_a_files_top(self):
+        for name, text in self.files():
+            bound = names_of_top(ast.parse(text))
+            self.assertEqual(len(bound), len(set(bound)), name)
+
+    def test_names_are_drawn_from_the_very_file_that_defines_them(self):
+        defined = {}
+        for name, text in self.files():
+            nodes = [node for node in ast.parse(text).body if not isinstance(node, ast.ImportFrom)]
+            defined["shutways." + name[:-3]] = names_of_top(ast.Module(nodes, []))
+        for name, node in self.nodes():
+            if isinstance(node, ast.ImportFrom):
+                for alias in node.names:
+                    self.assertIn(alias.name, defined[node.module], self.where(name, node))
+
+    def test_no_two_files_draw_from_one_another(self):
+        drawn = {}
+        for name, text in self.files():
+            nodes = [node for node in ast.walk(ast.parse(text)) if isinstance(node, ast.ImportFrom)]
+            drawn[name[:-3]] = {node.module.split(".")[1] for node in nodes}
+        while drawn:
+            free = [name for name in drawn if not drawn[name] & set(drawn)]
+            self.assertNotEqual(free, [], drawn)
+            for name in free:
+                drawn.pop(name)
+
+    def test_no_name_is_a_method_and_a_value(self):
+        methods = set()
+        values = set()
+        for name, node in self.nodes():
+            if isinstance(node, ast.ClassDef):
+                inner = [part.name for part in node.body if isinstance(part, ast.FunctionDef)]
+                self.assertEqual(len(inner), len(set(inner)), self.where(name, node))
+                self.assertLessEqual(len(node.bases), 1, self.where(name, node))
+                methods |= set(inner)
+            if isinstance(node, ast.Attribute) and not isinstance(node.ctx, ast.Load):
+                values.add(node.attr)
+        self.assertEqual(methods & values, set())
+
+    def test_is_stands_beside_none_true_and_false_alone(self):
+        for name, node in self.nodes():
+            if isinstance(node, ast.Compare):
+                for operator, right in zip(node.ops, node.comparators):
+                    if isinstance(operator, (ast.Is, ast.IsNot)):
+                        self.assertIsInstance(right, ast.Constant, self.where(name, node))
+                        self.assertIn(right.value, (None, True, False), self.where(name, node))
+
+    def test_errors_that_are_not_taken(self):
+        for name, node in self.nodes():
+            if isinstance(node, ast.ExceptHandler):
+                self.assertIsInstance(node.type, ast.Name, self.where(name, node))
+                self.assertNotIn(node.type.id, ("Exception", "TypeError"), self.where(name, node))
+
+    def test_what_is_walked_at_once_is_not_kept(self):
+        for name, node in self.nodes():
+            if isinstance(node, (ast.Assign, ast.Return)) and isinstance(node.value, ast.Call):
+                called = node.value.func
+                word = called.id if isinstance(called, ast.Name) else getattr(called, "attr", "")
+                self.assertNotIn(
+                    word, ("zip", "enumerate", "reversed", "range", "items", "keys", "values", "set", "frozenset"),
+                    self.where(name, node))
+
+    def test_texts(self):
+        for name, node in self.nodes():
+            if isinstance(node, ast.Constant) and isinstance(node.value, str):
+                self.assertNotIn("%", node.value, self.where(name, node))
 
 
 if __name__ == "__main__":

@@ -1,0 +1,65 @@
+"""Nets, things that are down and deeds, drawn by a seeded chance, for the tests."""
+
+from shutways.nets import make_net
+
+
+class Liar:
+    """A thing that holds itself for like whatever it is held against."""
+
+    def __eq__(self, other):
+        return True
+
+    def __hash__(self):
+        return 1
+
+
+# What is no whole number, whatever bounds it were to keep.
+NO_NUMBERS = (
+    Liar(),
+    True, False, None, "", "0", "1", "one", 0.0, 1.0, float("nan"), float("inf"), 1j, b"1",
+    [], [0], [1], (), (0,), (1,), {}, {1: 1}, set(), {1}, object(), int, range(2))
+
+
+def drawn_net(chance, most_bridges=10, most_ties=16, costs=(1, 1, 2, 3, 5, 9)):
+    numbers = range(15) if chance.random() < 0.5 else range(1000)
+    bridges = chance.sample(numbers, chance.randint(1, most_bridges))
+    ties = []
+    if len(bridges) > 1:
+        for k in range(chance.randint(0, most_ties)):
+            one, other = chance.sample(bridges, 2)
+            ties.append((one, other, chance.choice(costs)))
+    return make_net(bridges, ties)
+
+
+def drawn_down(chance, net):
+    part = chance.choice((0, 0, 0.1, 0.3, 0.6, 1))
+    bridges = tuple(bridge for bridge in net[0] if chance.random() < part)
+    part = chance.choice((0, 0, 0.1, 0.3, 0.6, 1))
+    ties = tuple(place for place in range(len(net[1])) if chance.random() < part)
+    return (bridges, ties)
+
+
+def drawn_fall_or_back(chance, net, down):
+    """A fall or a back of a bridge or a tie that can be done."""
+    fallen = {"bridge": down[0], "tie": down[1]}
+    there = {"bridge": net[0], "tie": range(len(net[1]))}
+    rows = []
+    for sort in ("bridge", "tie"):
+        rows += [("back", sort, number) for number in fallen[sort]] * 3
+        rows += [("fall", sort, number) for number in there[sort] if number not in fallen[sort]]
+    return chance.choice(rows)
+
+
+def drawn_deed(chance, net, down, letters, falls=0.03, lost=0.05, front=0.5):
+    """A deed that can be done: letters are how many the road has."""
+    draw = chance.random()
+    standing = [bridge for bridge in net[0] if bridge not in down[0]]
+    if draw < falls or not standing:
+        return drawn_fall_or_back(chance, net, down)
+    draw = chance.random()
+    # The fuller the road, the likelier a letter comes, so that it stays short.
+    if letters and draw < lost:
+        return ("lost", chance.randrange(letters))
+    if letters and draw < 0.4 + letters / 30:
+        return ("come", 0 if chance.random() < front else chance.randrange(letters))
+    return ("tick", chance.choice(standing))
