@@ -63,3 +63,11 @@ def drawn_deed(chance, net, down, letters, falls=0.03, lost=0.05, front=0.5):
     if letters and draw < 0.4 + letters / 30:
         return ("come", 0 if chance.random() < front else chance.randrange(letters))
     return ("tick", chance.choice(standing))
+
+
+def drawn_yard_deeds(chance, yard, many, falls=0.03, lost=0.05, front=0.5):
+    """Tells a yard so many deeds; each one is yielded when it is done."""
+    for turn in range(many):
+        deed = drawn_deed(chance, yard.net(), yard.down(), len(yard.road()), falls, lost, front)
+        yard.deed(deed)
+        yield deed

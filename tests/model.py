@@ -1,7 +1,35 @@
-"""Bridges and yards once more, written from the document's words 11 to 17 alone.
+"""The plain tree, bridges, yards and open ways once more, from the document's words alone.
 
 The tests hold the program against these, deed by deed.
 """
+
+import itertools
+
+
+def plainly_told(net, down):
+    """The plain tree by point 8's words, from the costs between all pairs."""
+    standing = [bridge for bridge in net[0] if bridge not in down[0]]
+    ties = [
+        (place, tie) for place, tie in enumerate(net[1])
+        if place not in down[1] and tie[0] in standing and tie[1] in standing]
+    far = 10 ** 9
+    costs = {pair: 0 if pair[0] == pair[1] else far for pair in itertools.product(standing, repeat=2)}
+    for place, (one, other, cost) in ties:
+        costs[one, other] = costs[other, one] = min(cost, costs[one, other])
+    for middle in standing:
+        for one, other in itertools.product(standing, repeat=2):
+            costs[one, other] = min(costs[one, other], costs[one, middle] + costs[middle, other])
+    rows = []
+    for bridge in standing:
+        root = min(other for other in standing if costs[bridge, other] < far)
+        ups = []
+        for place, tie in ties:
+            if bridge in tie[:2]:
+                near = tie[0] + tie[1] - bridge
+                ups.append((costs[near, root] + tie[2], near, place))
+        up = None if root == bridge else min(ups)[2]
+        rows.append((bridge, root, costs[bridge, root], up))
+    return rows
 
 
 class ModelBridge:
@@ -144,6 +172,28 @@ class ModelYard:
         if not self.is_up(place):
             return ("down", "down")
         return (self.bridges[one].end(place), self.bridges[other].end(place))
+
+    def open_ways(self):
+        told = []
+        for place, (one, other, cost) in enumerate(self.net[1]):
+            if self.is_up(place):
+                if (self.bridges[one].end(place), self.bridges[other].end(place)) == ("child", "parent"):
+                    told.append((place, one, other))
+                if (self.bridges[one].end(place), self.bridges[other].end(place)) == ("parent", "child"):
+                    told.append((place, other, one))
+        return told
+
+    def quiet_round(self):
+        for number in sorted(self.bridges):
+            self.deed(("tick", number))
+        while self.road:
+            self.deed(("come", 0))
+
+    def is_settled(self):
+        tree = plainly_told(self.net, self.down())
+        rows = [(number,) + self.bridges[number].label[:3] for number in sorted(self.bridges)]
+        ways = {place for place, child, parent in self.open_ways()}
+        return rows == tree and ways == {row[3] for row in tree if row[3] is not None}
 
 
 def seen_of_model(model):

@@ -6,38 +6,13 @@ import random
 import unittest
 
 from drawn import NO_NUMBERS, drawn_down, drawn_net
+from model import plainly_told
 from shutways.nets import make_net
 from shutways.trees import is_plain_tree, plain_tree, ways_of
 
 NONE = ((), ())
 NET = make_net([5, 2, 9, 30, 4], [(2, 9, 7), (5, 9, 1), (2, 9, 3), (9, 2, 3), (2, 5, 4), (30, 4, 10)])
 TREE = [(2, 2, 0, None), (4, 4, 0, None), (5, 2, 4, 4), (9, 2, 3, 2), (30, 4, 10, 5)]
-
-
-def plainly_told(net, down):
-    """The plain tree by point 8's words, from the costs between all pairs."""
-    standing = [bridge for bridge in net[0] if bridge not in down[0]]
-    ties = [
-        (place, tie) for place, tie in enumerate(net[1])
-        if place not in down[1] and tie[0] in standing and tie[1] in standing]
-    far = 10 ** 9
-    costs = {pair: 0 if pair[0] == pair[1] else far for pair in itertools.product(standing, repeat=2)}
-    for place, (one, other, cost) in ties:
-        costs[one, other] = costs[other, one] = min(cost, costs[one, other])
-    for middle in standing:
-        for one, other in itertools.product(standing, repeat=2):
-            costs[one, other] = min(costs[one, other], costs[one, middle] + costs[middle, other])
-    rows = []
-    for bridge in standing:
-        root = min(other for other in standing if costs[bridge, other] < far)
-        ups = []
-        for place, tie in ties:
-            if bridge in tie[:2]:
-                near = tie[0] + tie[1] - bridge
-                ups.append((costs[near, root] + tie[2], near, place))
-        up = None if root == bridge else min(ups)[2]
-        rows.append((bridge, root, costs[bridge, root], up))
-    return rows
 
 
 class PlainTreeTest(unittest.TestCase):

@@ -1,0 +1,31 @@
+"""Frames carried over the open ways of one moment."""
+
+from shutways.errors import NoFrame
+from shutways.wholes import is_whole
+from shutways.ways import open_ways
+
+
+def carried(yard, bridge):
+    # A truth would find the bridge of its like number, so it is asked first.
+    if not is_whole(bridge) or yard.bridge(bridge) is None:
+        raise NoFrame("no bridge of this number is up")
+    ways = open_ways(yard)
+    having = [(bridge, None)]
+    sent = 0
+    while sent < len(having):
+        having.extend(sent_on(ways, having[sent]))
+        sent += 1
+    return having
+
+
+def sent_on(ways, had):
+    bridge, came = had
+    goals = []
+    for place, child, parent in ways:
+        if place != came and bridge in (child, parent):
+            goals.append((parent if bridge == child else child, place))
+    return goals
+
+
+def part_of(yard, bridge):
+    return sorted([member for member, place in carried(yard, bridge)])
