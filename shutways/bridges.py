@@ -18,6 +18,15 @@ class Bridge:
         self.version = 0
         self.ticks_had = 0
 
+    def twin(self):
+        other = Bridge(self.number, self.life, [], self.age_let_go)
+        other.ties_by_place = dict(self.ties_by_place)
+        other.held_by_place = dict(self.held_by_place)
+        other.label_now = self.label_now
+        other.version = self.version
+        other.ticks_had = self.ticks_had
+        return other
+
     def label(self):
         return self.label_now
 

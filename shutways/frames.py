@@ -6,8 +6,7 @@ from shutways.ways import open_ways
 
 
 def carried(yard, bridge):
-    # A truth would find the bridge of its like number, so it is asked first.
-    if not is_whole(bridge) or yard.bridge(bridge) is None:
+    if not is_standing(yard, bridge):
         raise NoFrame("no bridge of this number is up")
     ways = open_ways(yard)
     having = [(bridge, None)]
@@ -16,6 +15,11 @@ def carried(yard, bridge):
         having.extend(sent_on(ways, having[sent]))
         sent += 1
     return having
+
+
+def is_standing(yard, thing):
+    # A truth would find the bridge of its like number, so it is asked first.
+    return is_whole(thing) and yard.bridge(thing) is not None
 
 
 def sent_on(ways, had):

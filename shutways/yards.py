@@ -24,6 +24,16 @@ class Yard:
             self.lives[number] = 0
             self.standing[number] = Bridge(number, 0, neighbours(net, number), greatest)
 
+    def twin(self):
+        other = Yard(self.net_made_of, self.greatest_age)
+        other.lives = dict(self.lives)
+        other.standing = {}
+        for number, bridge in self.standing.items():
+            other.standing[number] = bridge.twin()
+        other.ties_fallen = dict(self.ties_fallen)
+        other.letters_on_road = list(self.letters_on_road)
+        return other
+
     def net(self):
         return self.net_made_of
 
@@ -132,6 +142,13 @@ class Yard:
                 self.standing[near].up(place, far, cost)
             elif near in self.standing:
                 self.standing[near].down(place)
+
+
+def yard_behind(net, greatest, deeds):
+    yard = Yard(net, greatest)
+    for some in deeds:
+        yard.deed(some)
+    return yard
 
 
 def read_deed(some):

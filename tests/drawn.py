@@ -19,6 +19,23 @@ NO_NUMBERS = (
     True, False, None, "", "0", "1", "one", 0.0, 1.0, float("nan"), float("inf"), 1j, b"1",
     [], [0], [1], (), (0,), (1,), {}, {1: 1}, set(), {1}, object(), int, range(2))
 
+# What is no deed of a yard, a carrier, a learner or several trees, whatever their nets.
+NO_DEEDS = NO_NUMBERS + (
+    "tick", "tick 1", "come 0", b"tick", ["tick", 1], ["come", 0], [("tick", 1)], (("tick", 1),), {"tick": 1},
+    ("tick",), ("come",), ("lost",), ("fall",), ("back",), ("fall", "bridge"), ("back", "tie"),
+    ("tick", 1, 1), ("tick", "bridge", 1), ("tick", "tie", 0), ("fall", 1), ("back", 0), ("fall", 0, 0),
+    ("fall", "bridge", 1, 1), ("fall", "bridge", "tie", 1), ("fall", "way", 0), ("back", "Bridge", 1),
+    ("fall", "tie", 0, 0), ("fall", ("bridge", 1)), ("Tick", 1), ("TICK", 1), ("tick ", 1), ("tock", 1),
+    ("", 1), ("tie", 0), ("bridge", 1), ("come", "0"), ("lost", "tie", 0), ("come", 0, 0, 0),
+    ("lost", -1), ("come", -1), ("tick", -1), ("fall", "bridge", -1), ("fall", "tie", -1), ("back", "tie", -1),
+    ("tick", 1000), ("tick", 10 ** 50), ("come", 10 ** 50), ("lost", -10 ** 50), ("fall", "tie", 10 ** 50),
+    (1, "tick"), (0, 0), (None, 0), (True, 1), (("tick",), 1), (["tick"], 1), (Liar(), 1), (Liar(), "bridge", 1),
+    ("fall", Liar(), 0), ("back", None, 0), ("fall", ["bridge"], 1), ("go", 0), ("frame", "a", "b")
+    ) + tuple(
+        words + (thing,) for thing in NO_NUMBERS
+        for words in (("tick",), ("come",), ("lost",), ("fall", "bridge"), ("fall", "tie"), ("back", "bridge"),
+                      ("back", "tie")))
+
 
 def drawn_net(chance, most_bridges=10, most_ties=16, costs=(1, 1, 2, 3, 5, 9)):
     numbers = range(15) if chance.random() < 0.5 else range(1000)

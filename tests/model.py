@@ -196,6 +196,103 @@ class ModelYard:
         return rows == tree and ways == {row[3] for row in tree if row[3] is not None}
 
 
+class ModelCarrier:
+    """Points 27 and 28, over a ModelYard."""
+
+    def __init__(self, yard):
+        self.yard = yard
+        self.sent = 0
+        self.line = []
+        self.log = []
+
+    def send(self, bridge):
+        self.sent += 1
+        self.has(bridge, self.sent - 1, None)
+        return self.sent - 1
+
+    def has(self, bridge, number, came):
+        self.log.append((bridge, number, came))
+        for place, child, parent in sorted(self.yard.open_ways()):
+            if bridge in (child, parent) and place != came:
+                far = child + parent - bridge
+                bridges = self.yard.bridges
+                self.line.append((bridge, far, place, number, bridges[bridge].stamp(), bridges[far].stamp()))
+
+    def deed(self, some):
+        """Only of deeds that can be done."""
+        if some[0] not in ("arrive", "drop"):
+            self.yard.deed(some)
+            return
+        frame = self.line[some[1]]
+        self.line = self.line[:some[1]] + self.line[some[1] + 1:]
+        if some[0] == "arrive" and frame[2] in [way[0] for way in self.yard.open_ways()]:
+            if self.yard.bridges[frame[0]].stamp() == frame[4] and self.yard.bridges[frame[1]].stamp() == frame[5]:
+                self.has(frame[1], frame[3], frame[2])
+
+    def came(self, bridge):
+        return [(number, came) for there, number, came in self.log if there == bridge]
+
+
+class ModelLearner:
+    """Points 29 and 30, over a ModelYard."""
+
+    def __init__(self, yard, stations, whole):
+        self.yard, self.whole = yard, whole
+        self.home = dict(stations)
+        self.noted = {}
+
+    def frame(self, one, other):
+        """Only where it isn't refused."""
+        told = [(self.home[one], None)]
+        line = [(self.home[one], None)]
+        while line:
+            here, came = line.pop(0)
+            if here != self.home[one]:
+                self.noted[here, one] = came
+            for place, child, parent in sorted(self.yard.open_ways()):
+                if here not in (child, parent) or place == came or here == self.home[other]:
+                    continue
+                if self.noted.get((here, other), place) == place:
+                    told.append((child + parent - here, place))
+                    line.append((child + parent - here, place))
+        return told
+
+    def ends_open(self):
+        """All ends that are child or parent, as (bridge, place, word)."""
+        found = set()
+        for place, (one, other, cost) in enumerate(self.yard.net[1]):
+            for bridge, word in zip((one, other), self.yard.ends(place)):
+                if word in ("child", "parent"):
+                    found.add((bridge, place, word))
+        return found
+
+    def part(self, bridge):
+        part = {bridge}
+        for turn in self.yard.net[0]:
+            for place, child, parent in self.yard.open_ways():
+                if child in part or parent in part:
+                    part |= {child, parent}
+        return part
+
+    def deed(self, some):
+        """Only of deeds that can be done."""
+        ahead = self.ends_open()
+        self.yard.deed(some)
+        turned = {bridge for bridge, place, word in ahead ^ self.ends_open()}
+        if some[0] in ("fall", "back") and some[1] == "bridge":
+            self.let_go({some[2]})
+        self.let_go(turned)
+        if self.whole:
+            for bridge in turned & set(self.yard.bridges):
+                self.let_go(self.part(bridge))
+
+    def let_go(self, bridges):
+        self.noted = {key: place for key, place in self.noted.items() if key[0] not in bridges}
+
+    def notes(self, bridge):
+        return sorted((name, place) for (there, name), place in self.noted.items() if there == bridge)
+
+
 def seen_of_model(model):
     standing = sorted(model.bridges)
     places = range(len(model.net[1]))

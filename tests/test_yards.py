@@ -4,7 +4,7 @@ import itertools
 import random
 import unittest
 
-from drawn import NO_NUMBERS, drawn_deed, drawn_net
+from drawn import NO_NUMBERS, drawn_deed, drawn_net, drawn_yard_deeds
 from model import ModelYard, seen_of_model, seen_of_yard
 from shutways.bridges import Bridge
 from shutways.errors import NoDeed
@@ -371,6 +371,24 @@ class OwnListsTest(unittest.TestCase):
         self.assertEqual(labels, [(k, (k, 0, None, None)) for k in (1, 3, 7)])
         self.assertEqual(stamps, [(k, (0, 0)) for k in (1, 3, 7)])
         self.assertEqual(down, ((), ()))
+
+
+class TwinTest(unittest.TestCase):
+
+    def test_a_twin_goes_on_by_itself(self):
+        for seed in range(20):
+            chance = random.Random(seed)
+            yard = Yard(drawn_net(chance), 20)
+            for deed in drawn_yard_deeds(chance, yard, 100, 0.05):
+                pass
+            twin, seen = yard.twin(), seen_of_yard(yard)
+            self.assertEqual(seen_of_yard(twin), seen)
+            self.assertEqual((twin.net(), twin.greatest()), (yard.net(), yard.greatest()))
+            deeds = list(drawn_yard_deeds(chance, twin, 100, 0.1))
+            self.assertEqual(seen_of_yard(yard), seen)
+            for deed in deeds:
+                yard.deed(deed)
+            self.assertEqual(seen_of_yard(yard), seen_of_yard(twin))
 
 
 class AgainstTheModelTest(unittest.TestCase):
