@@ -1,7 +1,7 @@
 """All rows of a few deeds of a small net, gone through in one order."""
 
 from shutways.ways import open_ways
-from shutways.yards import yard_behind
+from shutways.yards import twin_behind, yard_behind
 
 
 def all_rows(net, greatest, ahead, many, falls):
@@ -35,12 +35,6 @@ def first_behind(yard, many, falls, ways):
         if rest is not None:
             return [deed] + rest
     return None
-
-
-def twin_behind(yard, deed):
-    twin = yard.twin()
-    twin.deed(deed)
-    return twin
 
 
 def deeds_of_now(yard, falls):

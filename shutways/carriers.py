@@ -3,7 +3,7 @@
 from shutways.errors import NoDeed, NoFrame
 from shutways.frames import is_standing, sent_on
 from shutways.wholes import is_whole, is_whole_between
-from shutways.ways import open_ways
+from shutways.ways import is_open_way, open_ways
 
 
 class Carrier:
@@ -42,7 +42,7 @@ class Carrier:
             self.have(goal, tie, number)
 
     def goes_on(self, start, goal, tie, stamps):
-        if tie not in [way[0] for way in open_ways(self.yard)]:
+        if not is_open_way(self.yard, tie):
             return False
         return stamps == (self.yard.bridge(start).stamp(), self.yard.bridge(goal).stamp())
 

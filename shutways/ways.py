@@ -15,6 +15,10 @@ def open_ways(yard):
     return ways
 
 
+def is_open_way(yard, place):
+    return sorted(yard.ends(place)) == ["child", "parent"]
+
+
 def rank_paper(yard):
     return [(bridge, label[0], label[1]) for bridge, label in yard.labels()]
 

@@ -151,6 +151,12 @@ def yard_behind(net, greatest, deeds):
     return yard
 
 
+def twin_behind(yard, deed):
+    twin = yard.twin()
+    twin.deed(deed)
+    return twin
+
+
 def read_deed(some):
     if not isinstance(some, tuple):
         raise NoDeed("a deed is a tuple")
